@@ -1,0 +1,1 @@
+"""Texts cut into pieces by ranked joins."""

@@ -1,0 +1,134 @@
+"""Lists of joins, texts and wrong values for the tests, and a second, word for word reading of the document."""
+
+HUGE = 10 ** 399
+
+# What an argument called piece, left, right, rank, number or many may be without being one.
+WRONG_NUMBERS = (
+    None, True, False, -1, -2, -HUGE, HUGE, "", "0", "a", "1" * 400, (), (0,), (0, 1), [], [0], [[0]], ([0],), ((0,), "a"),
+    [None, [True, (1, [2])]], [[[[[[[[[[0]]]]]]]]]], tuple(range(200)),
+)
+
+
+class Dice:
+    """Numbers that look drawn and are the same on each run."""
+
+    def __init__(self, seed):
+        self.state = seed * 2654435761 + 12345
+
+    def below(self, end):
+        self.state = (self.state * 6364136223846793005 + 1442695040888963407) % 2 ** 64
+        return (self.state >> 33) % end
+
+    def text(self, alphabet, many):
+        return "".join([alphabet[self.below(len(alphabet))] for _ in range(many)])
+
+
+def literal_cut(alphabet, pairs, text):
+    """[8] step by step: one join of the lowest rank at the leftmost place at a time."""
+    row = [alphabet.index(sign) for sign in text]
+    while True:
+        places = [(pairs.index(pair), at) for at, pair in enumerate(zip(row, row[1:])) if pair in pairs]
+        if not places:
+            return tuple(row)
+        rank, at = min(places)
+        row[at:at + 2] = [len(alphabet) + rank]
+
+
+def literal_pass(row, pair, piece):
+    """[9]: once from left to right, a place at a time."""
+    out = []
+    at = 0
+    while at < len(row):
+        if tuple(row[at:at + 2]) == pair:
+            out.append(piece)
+            at += 2
+        else:
+            out.append(row[at])
+            at += 1
+    return tuple(out)
+
+
+def literal_texts(alphabet, pairs):
+    texts = list(alphabet)
+    for left, right in pairs:
+        texts.append(texts[left] + texts[right])
+    return texts
+
+
+def first_joining(alphabet, pairs, texts_of_row):
+    """(at, rank) of the first join, in the order of [9], that puts letters of two of these texts together, or None."""
+    borders = []
+    at = 0
+    for text in texts_of_row[:-1]:
+        at += len(text)
+        borders.append(at)
+    stretches = [(at, at + 1, alphabet.index(sign)) for at, sign in enumerate("".join(texts_of_row))]
+    for rank, (left, right) in enumerate(pairs):
+        out = []
+        for stretch in stretches:
+            if out and (out[-1][2], stretch[2]) == (left, right):
+                begin, end = out.pop()[0], stretch[1]
+                inside = [number for number, border in enumerate(borders) if begin < border < end]
+                if inside:
+                    return inside[0], rank
+                stretch = (begin, end, len(alphabet) + rank)
+            out.append(stretch)
+        stretches = out
+    return None
+
+
+def drawn_pairs(dice, alphabet, many, tries=600):
+    """A proper list, drawn pair by pair and checked by literal_cut alone."""
+    pairs = []
+    texts = list(alphabet)
+    for _ in range(tries):
+        if len(pairs) == many:
+            break
+        low = max(0, len(texts) - 5) if dice.below(3) == 0 else 0
+        pair = tuple([low + dice.below(len(texts) - low) for _ in range(2)])
+        text = texts[pair[0]] + texts[pair[1]]
+        if len(text) <= 40 and literal_cut(alphabet, pairs, text) == pair:
+            pairs.append(pair)
+            texts.append(text)
+    return tuple(pairs)
+
+
+ALPHABET_OF_30 = "".join([chr(code) for code in range(ord("A"), ord("A") + 30)])
+ALPHABET_OF_31 = "".join([chr(code) for code in range(ord("A"), ord("A") + 31)])
+EXAMPLE = ("abc", ((0, 1), (3, 2), (0, 0)))
+# a, aa, ... up to 32 letters, then 40 letters.
+DOUBLING = ("a", ((0, 0), (1, 1), (2, 2), (3, 3), (4, 4), (5, 3)))
+SIXTY = ("abcdefgh", tuple([(left, right) for left in range(8) for right in range(8)][:60]))
+CHAIN_RIGHT = (ALPHABET_OF_30, tuple([(0, 1)] + [(29 + step, step + 1) for step in range(1, 29)]))
+CHAIN_LEFT = (ALPHABET_OF_30, tuple([(28, 29)] + [(28 - step, 29 + step) for step in range(1, 29)]))
+
+
+def many_lists():
+    """(alphabet, pairs) of many proper lists, small and large ones."""
+    lists = [EXAMPLE, DOUBLING, SIXTY, CHAIN_RIGHT, CHAIN_LEFT, ("a", ()), (" |~", ()), (ALPHABET_OF_30, ())]
+    dice = Dice(7)
+    for alphabet in ("a", "ab", " |", "abc", "0:x~", "abcdef"):
+        for many in (1, 2, 4, 7, 12, 20, 60):
+            lists.append((alphabet, drawn_pairs(dice, alphabet, many)))
+    return lists
+
+
+def texts_for(alphabet, pairs, many=8, longest=30):
+    """Texts over the alphabet: the empty one, drawn ones, texts of pieces one after the other, one sign often."""
+    dice = Dice(len(pairs) + 31 * len(alphabet))
+    texts = ["", alphabet[0], alphabet[-1] * 11]
+    for _ in range(many):
+        texts.append(dice.text(alphabet, dice.below(longest + 1)))
+        pieces = literal_texts(alphabet, pairs)
+        texts.append("".join([pieces[dice.below(len(pieces))] for _ in range(1 + dice.below(4))]))
+    return texts
+
+
+def rows_for(alphabet, pairs, many=12):
+    """Rows of pieces, cuts and others: without a piece, with one, and longer."""
+    dice = Dice(3 * len(pairs) + len(alphabet))
+    pieces = len(alphabet) + len(pairs)
+    rows = [(), (0,), (pieces - 1,)]
+    for _ in range(many):
+        rows.append(tuple([dice.below(pieces) for _ in range(2 + dice.below(5))]))
+    return rows

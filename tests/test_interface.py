@@ -1,0 +1,67 @@
+"""The interface: names, arguments, and where each is defined."""
+
+import importlib
+import inspect
+import unittest
+
+FUNCTIONS = {
+    "listing": {"write_joins": ("joins",), "read_joins": ("text",)},
+    "plain": {
+        "letters_of": ("joins", "text"), "cut": ("joins", "text"), "text_of_row": ("joins", "row"),
+        "join_all": ("joins", "row", "rank"), "staged": ("joins", "row", "many"), "split": ("joins", "row", "many"),
+        "history": ("joins", "text"),
+    },
+    "learning": {
+        "neighbors": ("joins", "corpus"), "learn": ("alphabet", "corpus", "many"), "sizes": ("joins", "corpus"),
+        "corpus_of": ("joins",),
+    },
+    "pairs": {
+        "right_spine": ("joins", "piece"), "left_spine": ("joins", "piece"), "crossing": ("joins", "left", "right"),
+        "side_by_side": ("joins", "left", "right"),
+    },
+    "judges": {"is_cut": ("joins", "row"), "reason": ("joins", "row"), "judge": ("joins", "text", "row")},
+    "tails": {"tails": ("joins", "text"), "chain": ("joins", "row_of_tails")},
+}
+
+CLASSES = {
+    "errors": {
+        "JoinError": {}, "InvalidAlphabet": {"__init__": ("alphabet",)}, "NotProper": {"__init__": ("rank",)},
+        "NoPiece": {"__init__": ("piece",)}, "UnknownSign": {"__init__": ("sign", "at")},
+        "InvalidText": {"__init__": ("text", "at")}, "InvalidNumber": {"__init__": ("number",)},
+        "NotCut": {"__init__": ("row",)}, "InvalidModel": {"__init__": ("last",)}, "NoChance": {"__init__": ("text",)},
+    },
+    "joinlists": {
+        "Joins": {
+            "__init__": ("alphabet", "pairs"), "text_of": ("piece",), "parts_of": ("piece",), "rank_of": ("left", "right"),
+            "piece_of": ("text",), "first": ("many",), "__len__": (), "__iter__": (), "__eq__": ("other",),
+        },
+    },
+}
+
+
+class Interface(unittest.TestCase):
+    def test_functions(self):
+        for name, functions in FUNCTIONS.items():
+            module = importlib.import_module(f"rankedjoins.{name}")
+            for function, parameters in functions.items():
+                found = getattr(module, function)
+                self.assertEqual(found.__module__, module.__name__, function)
+                self.assertEqual(tuple(inspect.signature(found).parameters), parameters, function)
+
+    def test_classes(self):
+        for name, classes in CLASSES.items():
+            module = importlib.import_module(f"rankedjoins.{name}")
+            for class_name, methods in classes.items():
+                found = getattr(module, class_name)
+                self.assertEqual(found.__module__, module.__name__, class_name)
+                for method, parameters in methods.items():
+                    self.assertIn(method, found.__dict__, class_name)
+                    self.assertEqual(tuple(inspect.signature(found.__dict__[method]).parameters)[1:], parameters, method)
+
+    def test_properties(self):
+        module = importlib.import_module("rankedjoins.joinlists")
+        self.assertIsInstance(module.Joins.__dict__["pieces"], property)
+
+
+if __name__ == "__main__":
+    unittest.main()

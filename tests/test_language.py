@@ -1,0 +1,75 @@
+"""What can be seen at a glance of the rules for the language of the package."""
+
+import ast
+import os
+import unittest
+
+FOLDER = os.path.join(os.path.dirname(os.path.dirname(os.path.abspath(__file__))), "rankedjoins")
+BUILTINS = set("""len range enumerate zip min max sum abs sorted reversed int str bool list tuple dict set isinstance ord
+    repr any all divmod super property iter ValueError NotImplemented True False None""".split())
+OTHER_BUILTINS = set(dir(__builtins__) if not isinstance(__builtins__, dict) else __builtins__) - BUILTINS
+TAKES_LISTS = ("any", "all", "min", "max", "sum", "sorted")
+FORBIDDEN = (ast.Global, ast.AsyncFunctionDef, ast.Await, ast.AsyncFor, ast.AsyncWith, ast.Import, ast.Div)
+
+
+def files():
+    return sorted([name for name in os.listdir(FOLDER) if name != "__pycache__"])
+
+
+def source(name):
+    with open(os.path.join(FOLDER, name), encoding="utf-8", newline="") as file:
+        return file.read()
+
+
+class Language(unittest.TestCase):
+    def test_files_hold_plain_characters_and_keep_their_sizes(self):
+        self.assertIn("__init__.py", files())
+        for name in files():
+            self.assertRegex(name, r"\A[a-z0-9_]+\.py\Z")
+            text = source(name)
+            self.assertTrue(text.endswith("\n"), name)
+            self.assertTrue(all([sign == "\n" or " " <= sign <= "~" for sign in text]), name)
+            lines = text.split("\n")
+            self.assertLessEqual(len(lines), 399, name)
+            self.assertLessEqual(max([len(line) for line in lines]), 120, name)
+            self.assertEqual([line for line in lines if line != line.rstrip()], [], name)
+
+    def test_functions_are_short_and_tell_what_they_do(self):
+        for name in files():
+            for node in ast.walk(ast.parse(source(name))):
+                if isinstance(node, ast.FunctionDef):
+                    self.assertLessEqual(node.end_lineno - node.lineno + 1, 40, node.name)
+                    if not node.name.startswith("__"):
+                        self.assertTrue(ast.get_docstring(node), f"{name} {node.name}")
+
+    def test_imports_name_the_package_alone(self):
+        for name in files():
+            for node in ast.walk(ast.parse(source(name))):
+                if isinstance(node, ast.ImportFrom):
+                    self.assertRegex(node.module, r"\Arankedjoins\.[a-z]+\Z")
+                    self.assertEqual(node.level, 0)
+                    self.assertNotIn("*", [alias.name for alias in node.names])
+
+    def test_no_forbidden_statement_builtin_or_value(self):
+        for name in files():
+            for node in ast.walk(ast.parse(source(name))):
+                self.assertNotIsInstance(node, FORBIDDEN, name)
+                if isinstance(node, ast.Name):
+                    self.assertNotIn(node.id, OTHER_BUILTINS, name)
+                    if isinstance(node.ctx, ast.Store):
+                        self.assertNotIn(node.id, BUILTINS, name)
+                if isinstance(node, ast.Constant):
+                    self.assertNotIsInstance(node.value, (float, complex), name)
+                    if isinstance(node.value, str):
+                        self.assertNotIn(chr(37), node.value, name)
+
+    def test_no_generator_expression_where_objects_may_be_compared(self):
+        for name in files():
+            for node in ast.walk(ast.parse(source(name))):
+                if isinstance(node, ast.Call) and isinstance(node.func, ast.Name) and node.func.id in TAKES_LISTS:
+                    kinds = [argument.__class__ for argument in node.args]
+                    self.assertNotIn(ast.GeneratorExp, kinds, name)
+
+
+if __name__ == "__main__":
+    unittest.main()

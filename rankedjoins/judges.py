@@ -1,5 +1,6 @@
 """Whether a row of pieces is the cut of its text, and why it is not."""
 
+from rankedjoins.errors import NotCut
 from rankedjoins.pairs import crossing, side_by_side
 from rankedjoins.plain import text_of_row
 
@@ -9,6 +10,12 @@ def is_cut(joins, row):
     if not all([joins.has_piece(piece) for piece in row]):
         return False
     return all([side_by_side(joins, left, right) for left, right in zip(row, row[1:])])
+
+
+def check_cut(joins, row):
+    """NotCut unless the row, any row of integers, is a cut."""
+    if not is_cut(joins, row):
+        raise NotCut(tuple(row))
 
 
 def reason(joins, row):

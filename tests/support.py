@@ -1,5 +1,8 @@
 """Lists of joins, texts and wrong values for the tests, and a second, word for word reading of the document."""
 
+import itertools
+import time
+
 HUGE = 10 ** 399
 
 # What an argument called piece, left, right, rank, number or many may be without being one.
@@ -132,3 +135,50 @@ def rows_for(alphabet, pairs, many=12):
     for _ in range(many):
         rows.append(tuple([dice.below(pieces) for _ in range(2 + dice.below(5))]))
     return rows
+
+
+def small_lists():
+    """(alphabet, pairs) of lists for which all texts or rows up to some length can be gone through."""
+    lists = [EXAMPLE, ("a", ()), ("ab", ()), ("a", DOUBLING[1][:2]), ("ab", ((1, 1), (0, 1), (2, 2)))]
+    dice = Dice(19)
+    for alphabet in ("a", "ab", " |", "abc"):
+        for many in (1, 2, 3, 4, 5, 6):
+            lists.append((alphabet, drawn_pairs(dice, alphabet, many)))
+    return lists
+
+
+def large_lists():
+    """(alphabet, pairs) of lists as large as the document allows: many joins, long pieces, deep spines."""
+    return [(alphabet, pairs) for alphabet, pairs in many_lists() if len(pairs) >= 29] + [DOUBLING]
+
+
+def all_texts(alphabet, many):
+    """All texts of many letters, ascending."""
+    return ["".join(signs) for signs in itertools.product(alphabet, repeat=many)]
+
+
+def texts_up_to(alphabet, longest):
+    """All texts of at most this many letters, by length and then ascending."""
+    return [text for many in range(longest + 1) for text in all_texts(alphabet, many)]
+
+
+def cuts_with(alphabet, pairs, many):
+    """All cuts with many pieces, ascending, found by cutting the text of each row."""
+    texts = literal_texts(alphabet, pairs)
+    rows = itertools.product(range(len(texts)), repeat=many)
+    return [row for row in rows if literal_cut(alphabet, pairs, "".join([texts[piece] for piece in row])) == row]
+
+
+class Quick:
+    """with Quick(seconds): fails if what stands in it takes longer; far more seconds than it should take."""
+
+    def __init__(self, seconds):
+        self.seconds = seconds
+
+    def __enter__(self):
+        self.begin = time.perf_counter()
+
+    def __exit__(self, kind, value, trace):
+        taken = time.perf_counter() - self.begin
+        if kind is None and taken > self.seconds:
+            raise AssertionError(f"took {taken} seconds")

@@ -21,6 +21,13 @@ FUNCTIONS = {
     },
     "judges": {"is_cut": ("joins", "row"), "reason": ("joins", "row"), "judge": ("joins", "text", "row")},
     "tails": {"tails": ("joins", "text"), "chain": ("joins", "row_of_tails")},
+    "pages": {"glued": ("joins", "left", "right"), "cut_in_parts": ("joins", "texts")},
+    "counting": {
+        "count_cuts": ("joins", "many"), "number_of_cut": ("joins", "row"), "cut_of_number": ("joins", "many", "number"),
+        "texts_by_pieces": ("joins", "many"), "count_ways": ("joins", "text"), "ways": ("joins", "text"),
+        "way_of_number": ("joins", "text", "number"), "number_of_way": ("joins", "row"),
+    },
+    "extremes": {"fewest": ("joins", "many"), "most": ("joins", "many")},
 }
 
 CLASSES = {
@@ -36,7 +43,16 @@ CLASSES = {
             "piece_of": ("text",), "first": ("many",), "__len__": (), "__iter__": (), "__eq__": ("other",),
         },
     },
+    "streams": {"Stream": {"__init__": ("joins",), "feed": ("text",), "finish": ()}},
+    "pages": {
+        "Page": {
+            "__init__": ("joins", "text"), "content": (), "cut_row": (), "put_in": ("at", "text"), "take_out": ("at", "many"),
+            "undo": (), "redo": (), "__len__": (),
+        },
+    },
 }
+
+PROPERTIES = {"joinlists": {"Joins": ("pieces",)}, "streams": {"Stream": ("told", "waiting")}}
 
 
 class Interface(unittest.TestCase):
@@ -59,8 +75,11 @@ class Interface(unittest.TestCase):
                     self.assertEqual(tuple(inspect.signature(found.__dict__[method]).parameters)[1:], parameters, method)
 
     def test_properties(self):
-        module = importlib.import_module("rankedjoins.joinlists")
-        self.assertIsInstance(module.Joins.__dict__["pieces"], property)
+        for name, classes in PROPERTIES.items():
+            module = importlib.import_module(f"rankedjoins.{name}")
+            for class_name, properties in classes.items():
+                for found in properties:
+                    self.assertIsInstance(getattr(module, class_name).__dict__[found], property, found)
 
 
 if __name__ == "__main__":

@@ -9,6 +9,11 @@ BUILTINS = set("""len range enumerate zip min max sum abs sorted reversed int st
     repr any all divmod super property iter ValueError NotImplemented True False None""".split())
 OTHER_BUILTINS = set(dir(__builtins__) if not isinstance(__builtins__, dict) else __builtins__) - BUILTINS
 TAKES_LISTS = ("any", "all", "min", "max", "sum", "sorted")
+METHODS_OF_VALUES = set("""append clear copy count endswith extend find get index insert isalnum isalpha isdigit islower
+    isspace isupper items join keys ljust lower lstrip partition pop remove replace reverse rfind rjust rpartition rsplit
+    rstrip setdefault split splitlines startswith strip update upper values zfill bit_length""".split())
+NOT_CALLED_SO = set("""breakpoint compile copyright credits delattr dir eval exec exit gc globals help id input law license
+    locals map mro next open os quit register sys type vars elements""".split())
 FORBIDDEN = (ast.Global, ast.AsyncFunctionDef, ast.Await, ast.AsyncFor, ast.AsyncWith, ast.Import, ast.Div)
 
 
@@ -62,6 +67,52 @@ class Language(unittest.TestCase):
                     self.assertNotIsInstance(node.value, (float, complex), name)
                     if isinstance(node.value, str):
                         self.assertNotIn(chr(37), node.value, name)
+
+    def test_names_mean_one_thing(self):
+        for name in files():
+            tree = ast.parse(source(name))
+            taken = set([alias.name for node in ast.walk(tree) if isinstance(node, ast.ImportFrom) for alias in node.names])
+            taken |= set([node.name for node in ast.walk(tree) if isinstance(node, ast.ClassDef)])
+            for node in ast.walk(tree):
+                if isinstance(node, ast.arg) or isinstance(node, ast.FunctionDef):
+                    word = node.arg if isinstance(node, ast.arg) else node.name
+                elif isinstance(node, ast.Name) and isinstance(node.ctx, ast.Store):
+                    word = node.id
+                else:
+                    continue
+                self.assertNotIn(word, taken | BUILTINS | OTHER_BUILTINS | NOT_CALLED_SO, name)
+
+    def test_methods_that_are_called_are_listed_or_own(self):
+        trees = [ast.parse(source(name)) for name in files()]
+        own = set([node.name for tree in trees for node in ast.walk(tree) if isinstance(node, ast.FunctionDef)])
+        for node in [node for tree in trees for node in ast.walk(tree)]:
+            if isinstance(node, ast.Call) and isinstance(node.func, ast.Attribute):
+                self.assertIn(node.func.attr, METHODS_OF_VALUES | own)
+
+    def test_what_a_loop_goes_over_is_not_changed_in_it(self):
+        for name in files():
+            for loop in ast.walk(ast.parse(source(name))):
+                if not isinstance(loop, ast.For):
+                    continue
+                gone_over = set([ast.unparse(node) for node in ast.walk(loop.iter) if isinstance(node, (ast.Name, ast.Attribute))])
+                for node in [node for statement in loop.body for node in ast.walk(statement)]:
+                    if isinstance(node, ast.Call) and isinstance(node.func, ast.Attribute):
+                        if node.func.attr in ("append", "pop", "extend", "insert", "remove", "clear", "update", "setdefault"):
+                            self.assertNotIn(ast.unparse(node.func.value), gone_over, name)
+                    if isinstance(node, ast.Subscript) and isinstance(node.ctx, (ast.Store, ast.Del)):
+                        self.assertNotIn(ast.unparse(node.value), gone_over, name)
+
+    def test_a_name_that_keeps_a_range_is_assigned_once(self):
+        kept = ("range", "zip", "enumerate", "reversed")
+        for name in files():
+            for function in ast.walk(ast.parse(source(name))):
+                if not isinstance(function, ast.FunctionDef):
+                    continue
+                assigned = [node for node in ast.walk(function) if isinstance(node, ast.Assign)]
+                words = [ast.unparse(node.targets[0]) for node in assigned]
+                for node in assigned:
+                    if isinstance(node.value, ast.Call) and ast.unparse(node.value.func) in kept:
+                        self.assertEqual(words.count(ast.unparse(node.targets[0])), 1, f"{name} {function.name}")
 
     def test_no_generator_expression_where_objects_may_be_compared(self):
         for name in files():

@@ -4,7 +4,7 @@ import unittest
 
 from rankedjoins.errors import NoPiece
 from rankedjoins.joinlists import Joins
-from rankedjoins.pairs import crossing, left_spine, right_spine, side_by_side
+from rankedjoins.pairs import choices_behind, crossing, following_masks, left_spine, right_spine, side_by_side
 from rankedjoins.plain import cut
 from support import CHAIN_LEFT, CHAIN_RIGHT, EXAMPLE, WRONG_NUMBERS, Dice, first_joining, literal_texts, many_lists
 
@@ -112,6 +112,21 @@ class Promises(unittest.TestCase):
                     self.assertEqual(crossing(joins, left, right), first and first[1])
                     self.assertEqual(first is None, is_cut)
         self.assertGreater(apart, 1000)
+
+
+class AllPairs(unittest.TestCase):
+    def test_the_tables_tell_the_same_as_side_by_side(self):
+        dice = Dice(61)
+        for alphabet, pairs in many_lists():
+            joins = Joins(alphabet, pairs)
+            masks = following_masks(joins)
+            choices = choices_behind(joins)
+            self.assertEqual((len(masks), len(choices)), (joins.pieces, joins.pieces + 1))
+            self.assertEqual(choices[-1], tuple(range(joins.pieces)))
+            for left in range(joins.pieces):
+                self.assertEqual(choices[left], tuple([right for right in range(joins.pieces) if masks[left] >> right & 1]))
+                for right in [dice.below(joins.pieces) for _ in range(12)]:
+                    self.assertIs(right in choices[left], side_by_side(joins, left, right))
 
 
 if __name__ == "__main__":

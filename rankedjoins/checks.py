@@ -1,6 +1,6 @@
 """What is asked of arguments before they are used."""
 
-from rankedjoins.errors import InvalidNumber
+from rankedjoins.errors import InvalidAlphabet, InvalidNumber
 
 MOST_LETTERS = 30
 
@@ -24,6 +24,12 @@ def is_alphabet(text):
     """Whether the text is an alphabet: 1 to 30 distinct signs, ascending."""
     ascending = all([first < second for first, second in zip(text, text[1:])])
     return 1 <= len(text) <= MOST_LETTERS and ascending and all([is_sign(sign) for sign in text])
+
+
+def check_alphabet(text):
+    """InvalidAlphabet unless the text is an alphabet."""
+    if not is_alphabet(text):
+        raise InvalidAlphabet(text)
 
 
 def check_number(number, end):

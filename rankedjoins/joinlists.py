@@ -1,7 +1,7 @@
 """Lists of joins."""
 
-from rankedjoins.checks import check_number, is_alphabet, is_number_below
-from rankedjoins.errors import InvalidAlphabet, NoPiece, NotProper
+from rankedjoins.checks import check_alphabet, check_number, is_number_below
+from rankedjoins.errors import NoPiece, NotProper
 from rankedjoins.rows import join_down, letter_row
 
 MOST_SIGNS_OF_PIECE = 40
@@ -22,8 +22,7 @@ class Joins:
     """A proper list of joins over an alphabet; it never changes."""
 
     def __init__(self, alphabet, pairs):
-        if not is_alphabet(alphabet):
-            raise InvalidAlphabet(alphabet)
+        check_alphabet(alphabet)
         self.alphabet = alphabet
         self.pairs = tuple([(left, right) for left, right in pairs])
         self._texts = list(alphabet)

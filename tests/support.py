@@ -182,3 +182,50 @@ class Quick:
         taken = time.perf_counter() - self.begin
         if kind is None and taken > self.seconds:
             raise AssertionError(f"took {taken} seconds")
+
+
+def drawn_machine(dice, alphabet, states, gaps=4, ends=3):
+    """(alphabet, start, ends, steps): one of so many steps is missing (none if 0), one of so many states is an end."""
+    steps = []
+    for _ in range(states):
+        steps.append([None if gaps and dice.below(gaps) == 0 else dice.below(states) for _ in alphabet])
+    taking = [state for state in range(states) if dice.below(ends) == 0]
+    return alphabet, dice.below(states), taking[::-1], steps
+
+
+def many_machines(alphabet):
+    """(alphabet, start, ends, steps) of machines of several kinds, as lists and tuples."""
+    none = [None] * len(alphabet)
+    machines = [
+        (alphabet, 0, (), (tuple(none),)),
+        (alphabet, 0, (0,), (tuple(none),)),
+        (alphabet, 0, (), ((0,) * len(alphabet),)),
+        (alphabet, 0, [0], [[0] * len(alphabet)]),
+        # State 0 can't be come to, from state 2 no end can be come to, states 1 and 3 take the same texts.
+        (alphabet, 1, [3, 1], [[0] + none[1:], [3] + [2] * (len(alphabet) - 1), [2] * len(alphabet),
+                               [1] + [2] * (len(alphabet) - 1)]),
+    ]
+    dice = Dice(len(alphabet))
+    for states in (2, 3, 5, 8, 12):
+        for gaps, ends in ((4, 3), (0, 2), (2, 2)):
+            machines.append(drawn_machine(dice, alphabet, states, gaps, ends))
+    return machines
+
+
+def literal_after(alphabet, steps, state, text):
+    """[20] letter by letter."""
+    for sign in text:
+        if state is not None:
+            state = steps[state][alphabet.index(sign)]
+    return state
+
+
+def literal_takes(machine, text):
+    """Whether the machine, (alphabet, start, ends, steps), takes the text."""
+    alphabet, start, ends, steps = machine
+    return literal_after(alphabet, steps, start, text) in list(ends)
+
+
+def taken_up_to(machine, longest):
+    """The texts of at most this many letters that the machine, (alphabet, start, ends, steps), takes."""
+    return [text for text in texts_up_to(machine[0], longest) if literal_takes(machine, text)]

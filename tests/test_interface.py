@@ -28,6 +28,15 @@ FUNCTIONS = {
         "way_of_number": ("joins", "text", "number"), "number_of_way": ("joins", "row"),
     },
     "extremes": {"fewest": ("joins", "many"), "most": ("joins", "many")},
+    "likeness": {"parting_text": ("joins", "other")},
+    "patterns": {
+        "machine_of": ("alphabet", "pattern"), "least": ("machine",), "both": ("machine", "other"),
+        "either": ("machine", "other"), "but": ("machine", "other"),
+    },
+    "masks": {
+        "lets": ("joins", "machine", "row"), "may_end": ("joins", "machine", "row"),
+        "shortest_end": ("joins", "machine", "row"),
+    },
 }
 
 CLASSES = {
@@ -48,6 +57,12 @@ CLASSES = {
         "Page": {
             "__init__": ("joins", "text"), "content": (), "cut_row": (), "put_in": ("at", "text"), "take_out": ("at", "many"),
             "undo": (), "redo": (), "__len__": (),
+        },
+    },
+    "grammars": {
+        "Machine": {
+            "__init__": ("alphabet", "start", "ends", "steps"), "after": ("state", "text"), "takes": ("text",),
+            "__eq__": ("other",),
         },
     },
 }

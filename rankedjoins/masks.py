@@ -37,14 +37,11 @@ def ends_ahead(machine, choices, columns):
         for state in range(len(machine.steps)):
             heads.append(mask_of([piece for piece in pieces if fewest.get((piece, columns[piece][state])) == many]))
         many += 1
-        rest = []
-        for piece, state in waiting:
-            if masks[piece] & heads[state] != 0:
-                fewest[(piece, state)] = many
-            else:
-                rest.append((piece, state))
-        grows = len(rest) < len(waiting)
-        waiting = rest
+        found = [(piece, state) for piece, state in waiting if masks[piece] & heads[state] != 0]
+        for key in found:
+            fewest[key] = many
+        waiting = [key for key in waiting if key not in fewest]
+        grows = len(found) > 0
     return fewest
 
 

@@ -45,10 +45,9 @@ class PatternReader:
 
     def link(self, lasts, firsts):
         """From now on these firsts may follow these lasts."""
-        follows = []
-        for place, behind in enumerate(self.follows):
-            follows.append(behind | firsts if (lasts >> place) & 1 == 1 else behind)
-        self.follows = follows
+        self.follows = [
+            behind | firsts if (lasts >> place) & 1 == 1 else behind for place, behind in enumerate(self.follows)
+        ]
 
     def sign(self):
         """The sign that is read next, the empty string at the end."""

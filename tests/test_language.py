@@ -14,6 +14,7 @@ METHODS_OF_VALUES = set("""append clear copy count endswith extend find get inde
     rstrip setdefault split splitlines startswith strip update upper values zfill bit_length""".split())
 NOT_CALLED_SO = set("""breakpoint compile copyright credits delattr dir eval exec exit gc globals help id input law license
     locals map mro next open os quit register sys type vars elements""".split())
+CHANGING = ("append", "pop", "extend", "insert", "remove", "clear", "update", "setdefault", "reverse", "sort")
 FORBIDDEN = (ast.Global, ast.AsyncFunctionDef, ast.Await, ast.AsyncFor, ast.AsyncWith, ast.Import, ast.Div)
 
 
@@ -24,6 +25,40 @@ def files():
 def source(name):
     with open(os.path.join(FOLDER, name), encoding="utf-8", newline="") as file:
         return file.read()
+
+
+def names_in(node):
+    """The names and attributes that stand in the node, outside of the calls that make something new of them."""
+    if isinstance(node, ast.Call) and ast.unparse(node.func) in ("list", "range", "sorted", "tuple"):
+        return []
+    if isinstance(node, (ast.Name, ast.Attribute)):
+        return [ast.unparse(node)]
+    return [word for part in ast.iter_child_nodes(node) for word in names_in(part)]
+
+
+def changed_names(statements):
+    """The names and attributes of which an item is set or removed, or whose methods change them."""
+    words = []
+    for node in [node for statement in statements for node in ast.walk(statement)]:
+        if isinstance(node, ast.Call) and isinstance(node.func, ast.Attribute) and node.func.attr in CHANGING:
+            words.append(ast.unparse(node.func.value))
+        if isinstance(node, ast.Subscript) and isinstance(node.ctx, (ast.Store, ast.Del)):
+            words.append(ast.unparse(node.value))
+    return words
+
+
+def names_of_one_value(function):
+    """A function that tells, for a name, all names that may mean the same value as it by some plain assignment."""
+    groups = {}
+    for node in ast.walk(function):
+        if isinstance(node, ast.Assign):
+            for target in node.targets:
+                values = [node.value.body, node.value.orelse] if isinstance(node.value, ast.IfExp) else [node.value]
+                for value in [value for value in values if isinstance(value, (ast.Name, ast.Attribute))]:
+                    words = [ast.unparse(target), ast.unparse(value)]
+                    joined = sorted(set([name for word in words for name in groups.get(word, [word])]))
+                    groups.update({word: joined for word in joined})
+    return lambda word: groups.get(word, [word])
 
 
 class Language(unittest.TestCase):
@@ -97,10 +132,20 @@ class Language(unittest.TestCase):
                 gone_over = set([ast.unparse(node) for node in ast.walk(loop.iter) if isinstance(node, (ast.Name, ast.Attribute))])
                 for node in [node for statement in loop.body for node in ast.walk(statement)]:
                     if isinstance(node, ast.Call) and isinstance(node.func, ast.Attribute):
-                        if node.func.attr in ("append", "pop", "extend", "insert", "remove", "clear", "update", "setdefault"):
+                        if node.func.attr in CHANGING:
                             self.assertNotIn(ast.unparse(node.func.value), gone_over, name)
                     if isinstance(node, ast.Subscript) and isinstance(node.ctx, (ast.Store, ast.Del)):
                         self.assertNotIn(ast.unparse(node.value), gone_over, name)
+
+    def test_what_a_loop_goes_over_is_not_changed_in_it_by_another_name(self):
+        for name in files():
+            for function in ast.walk(ast.parse(source(name))):
+                if isinstance(function, ast.FunctionDef):
+                    together = names_of_one_value(function)
+                    for loop in [node for node in ast.walk(function) if isinstance(node, ast.For)]:
+                        gone_over = set([name for word in names_in(loop.iter) for name in together(word)])
+                        changed = set([name for word in changed_names(loop.body) for name in together(word)])
+                        self.assertEqual(gone_over & changed, set(), f"{name} row {loop.lineno}")
 
     def test_a_name_that_keeps_a_range_is_assigned_once(self):
         kept = ("range", "zip", "enumerate", "reversed")

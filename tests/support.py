@@ -2,6 +2,9 @@
 
 import itertools
 import time
+from fractions import Fraction
+
+from rankedjoins.errors import JoinError
 
 HUGE = 10 ** 399
 
@@ -229,3 +232,80 @@ def literal_takes(machine, text):
 def taken_up_to(machine, longest):
     """The texts of at most this many letters that the machine, (alphabet, start, ends, steps), takes."""
     return [text for text in texts_up_to(machine[0], longest) if literal_takes(machine, text)]
+
+
+def told_error(test, kind, call, **attributes):
+    """The error that the call raises, which is of this very kind and has these attributes."""
+    with test.assertRaises(JoinError) as caught:
+        call()
+    test.assertIs(caught.exception.__class__, kind)
+    for name, value in attributes.items():
+        test.assertEqual(getattr(caught.exception, name), value)
+        test.assertIs(getattr(caught.exception, name).__class__, value.__class__)
+    return caught.exception
+
+
+def fraction(share):
+    """The share as a fraction of Python's own, if it is in lowest terms with under above 0."""
+    found = Fraction(share.over, share.under)
+    if (share.over, share.under) != (found.numerator, found.denominator):
+        raise AssertionError(f"not in lowest terms: {share.over} / {share.under}")
+    return found
+
+
+def none_ahead(value):
+    """A key by which None stands ahead of all integers and strings."""
+    return (value is not None, value or 0)
+
+
+def drawn_table(dice, alphabet, pairs, many, ends=2, forward=False):
+    """A table with None and at most so many pieces; one of so many rows, or each without other choices, has the end.
+
+    With forward each piece is followed by later pieces of some order only, so that all its rows come to an end.
+    """
+    neighbors = {pair: True for pair in cuts_with(alphabet, pairs, 2)}
+    rest = list(range(len(alphabet) + len(pairs)))
+    pieces = []
+    while rest and len(pieces) < many:
+        pieces.append(rest.pop(dice.below(len(rest))))
+    table = []
+    for at, last in enumerate([None] + pieces):
+        fitting = [piece for piece in (pieces[at:] if forward else pieces) if last is None or (last, piece) in neighbors]
+        choices = [[piece, 1 + dice.below(7)] for piece in fitting if dice.below(4) > 0]
+        if not choices or dice.below(ends) == 0:
+            choices.insert(dice.below(len(choices) + 1), [None, 1 + dice.below(7)])
+        table.insert(dice.below(len(table) + 1), [last, choices])
+    return table
+
+
+def weights_of(table):
+    """The table as a dict of dicts."""
+    return {last: dict([tuple(choice) for choice in choices]) for last, choices in table}
+
+
+def literal_chance(table, choices):
+    """[24]: the product of the chances of these choices, pieces and perhaps None behind them."""
+    weights = weights_of(table)
+    chance = Fraction(1)
+    last = None
+    for following in choices:
+        if following not in weights.get(last, {}):
+            return Fraction(0)
+        chance *= Fraction(weights[last][following], sum(weights[last].values()))
+        last = following
+    return chance
+
+
+def ended_rows(table, most=None):
+    """All rows (of at most so many pieces) that come to an end in the table."""
+    weights = weights_of(table)
+    rows = []
+    waiting = [()]
+    while waiting:
+        row = waiting.pop()
+        choices = weights[row[-1] if row else None]
+        if None in choices:
+            rows.append(row)
+        if most is None or len(row) < most:
+            waiting.extend([row + (piece,) for piece in choices if piece is not None])
+    return rows

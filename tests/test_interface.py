@@ -37,6 +37,9 @@ FUNCTIONS = {
         "lets": ("joins", "machine", "row"), "may_end": ("joins", "machine", "row"),
         "shortest_end": ("joins", "machine", "row"),
     },
+    "models": {"model_of": ("joins", "corpus")},
+    "covers": {"covers": ("model", "text"), "begins": ("model", "text"), "next_signs": ("model", "text")},
+    "conditions": {"chance_of_machine": ("model", "machine"), "next_pieces": ("model", "machine", "row")},
 }
 
 CLASSES = {
@@ -63,6 +66,18 @@ CLASSES = {
         "Machine": {
             "__init__": ("alphabet", "start", "ends", "steps"), "after": ("state", "text"), "takes": ("text",),
             "__eq__": ("other",),
+        },
+    },
+    "shares": {
+        "Share": {
+            "__init__": ("over", "under"), "__add__": ("other",), "__sub__": ("other",), "__mul__": ("other",),
+            "__eq__": ("other",), "is_below": ("other",), "written": (),
+        },
+    },
+    "models": {
+        "Model": {
+            "__init__": ("joins", "table"), "chance_of_begin": ("row",), "chance_of_row": ("row",), "chance_of_text": ("text",),
+            "table": (),
         },
     },
 }

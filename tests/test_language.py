@@ -85,7 +85,9 @@ class Language(unittest.TestCase):
     def test_imports_name_the_package_alone(self):
         for name in files():
             for node in ast.walk(ast.parse(source(name))):
-                if isinstance(node, ast.ImportFrom):
+                if isinstance(node, ast.ImportFrom) and node.module == "math":
+                    self.assertEqual([(alias.name, alias.asname) for alias in node.names], [("gcd", None)])
+                elif isinstance(node, ast.ImportFrom):
                     self.assertRegex(node.module, r"\Arankedjoins\.[a-z]+\Z")
                     self.assertEqual(node.level, 0)
                     self.assertNotIn("*", [alias.name for alias in node.names])

@@ -4,6 +4,7 @@ from rankedjoins.checks import check_alphabet, check_number, is_number_below
 from rankedjoins.errors import NoPiece, NotProper
 from rankedjoins.rows import join_down, letter_row
 
+MOST_JOINS = 60
 MOST_SIGNS_OF_PIECE = 40
 
 

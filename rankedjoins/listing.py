@@ -2,9 +2,8 @@
 
 from rankedjoins.checks import is_alphabet
 from rankedjoins.errors import InvalidText, NotProper
-from rankedjoins.joinlists import Joins
+from rankedjoins.joinlists import MOST_JOINS, Joins
 
-MOST_JOINS = 60
 MOST_DIGITS = 4
 
 

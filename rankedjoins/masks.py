@@ -65,8 +65,15 @@ class Roads:
         if state is None:
             return []
         last = row[-1] if len(row) > 0 else -1
-        found = [(self._fewest.get((piece, self.state_behind(state, piece))), piece) for piece in self._choices[last]]
+        found = [(self.fewest_behind(state, piece), piece) for piece in self._choices[last]]
         return [(fewest, piece) for fewest, piece in found if fewest is not None]
+
+    def fewest_behind(self, state, piece):
+        """How many pieces it takes at least, behind this piece, to come to an end; None if none can be come to.
+
+        state is the one ahead of the piece.
+        """
+        return self._fewest.get((piece, self.state_behind(state, piece)))
 
 
 def state_of(joins, machine, row):

@@ -5,6 +5,7 @@ import time
 from fractions import Fraction
 
 from rankedjoins.errors import JoinError
+from rankedjoins.plain import cut
 
 HUGE = 10 ** 399
 
@@ -83,8 +84,8 @@ def first_joining(alphabet, pairs, texts_of_row):
     return None
 
 
-def drawn_pairs(dice, alphabet, many, tries=600):
-    """A proper list, drawn pair by pair and checked by literal_cut alone."""
+def drawn_pairs(dice, alphabet, many, tries=600, blank_inside=True):
+    """A proper list, drawn pair by pair and checked by literal_cut alone, perhaps without a blank behind a first sign."""
     pairs = []
     texts = list(alphabet)
     for _ in range(tries):
@@ -93,6 +94,8 @@ def drawn_pairs(dice, alphabet, many, tries=600):
         low = max(0, len(texts) - 5) if dice.below(3) == 0 else 0
         pair = tuple([low + dice.below(len(texts) - low) for _ in range(2)])
         text = texts[pair[0]] + texts[pair[1]]
+        if not blank_inside and " " in text[1:]:
+            continue
         if len(text) <= 40 and literal_cut(alphabet, pairs, text) == pair:
             pairs.append(pair)
             texts.append(text)
@@ -309,3 +312,98 @@ def ended_rows(table, most=None):
         if most is None or len(row) < most:
             waiting.extend([row + (piece,) for piece in choices if piece is not None])
     return rows
+
+
+def common_beginning(rows):
+    """The longest common beginning of the rows."""
+    rows = list(rows)
+    many = 0
+    while all([len(row) > many for row in rows]) and len(set([row[many] for row in rows])) == 1:
+        many += 1
+    return rows[0][:many]
+
+
+def endings_of(alphabet, pairs):
+    """The empty text and all endings of the texts of pieces."""
+    endings = {"": True}
+    for piece in literal_texts(alphabet, pairs):
+        for at in range(len(piece)):
+            endings[piece[at:]] = True
+    return list(endings)
+
+
+def sure_row(joins, endings, text):
+    """The longest common beginning of the cuts of the texts that go on from this one with one of the endings."""
+    # Where the text ends inside of the last piece of some cut, the rest of this piece is among the endings.
+    return common_beginning([cut(joins, text + ending) for ending in endings])
+
+
+def finite_machine(alphabet, texts):
+    """(alphabet, start, ends, steps) of a machine that takes just these texts."""
+    beginnings = sorted(set([text[:many] for text in list(texts) + [""] for many in range(len(text) + 1)]))
+    steps = []
+    for beginning in beginnings:
+        longer = [beginning + letter for letter in alphabet]
+        steps.append([beginnings.index(text) if text in beginnings else None for text in longer])
+    return alphabet, 0, [beginnings.index(text) for text in texts], steps
+
+
+def literal_neighbors(alphabet, pairs, corpus):
+    """[10]: the totals of the neighbors in the cuts of the texts."""
+    totals = {}
+    for text, count in corpus:
+        row = literal_cut(alphabet, pairs, text)
+        for at in range(len(row) - 1):
+            pair = (row[at], row[at + 1])
+            totals[pair] = totals.get(pair, 0) + count
+    ordered = sorted([(-total, pair) for pair, total in totals.items()])
+    return tuple([(pair, -negative) for negative, pair in ordered])
+
+
+def literal_learn(alphabet, corpus, many):
+    """[10]: the pairs that are learnt, all texts cut anew for each."""
+    pairs = []
+    while len(pairs) < many:
+        totals = literal_neighbors(alphabet, pairs, corpus)
+        if not totals or totals[0][1] < 2:
+            break
+        pair = totals[0][0]
+        texts = literal_texts(alphabet, pairs)
+        if len(texts[pair[0]] + texts[pair[1]]) > 40:
+            break
+        pairs.append(pair)
+    return tuple(pairs)
+
+
+NAMES = ((), ("a",), ("ab", "a", "abc", "b"), ("z", "end", "begin", "b", "be", "beg", "abcdefgh", "abcdefg", "x", "endx"))
+
+
+def tokenizer_lists(blank_inside=False):
+    """(alphabet, pairs) of lists with and without blanks, by default without pieces that have one behind their first sign."""
+    lists = [EXAMPLE, (" abc", ((1, 2), (0, 1), (4, 3), (0, 4))), (" ", ()), (" a", ((0, 1), (1, 1))), ("a", ((0, 0),)),
+             (" ab", ((0, 1), (1, 1), (3, 2), (2, 2), (0, 2)))]
+    dice = Dice(43)
+    for alphabet in (" a", " ab", " abe", "ab", " .bn~"):
+        for many in (2, 5, 12):
+            lists.append((alphabet, drawn_pairs(dice, alphabet, many, 600, blank_inside)))
+    if blank_inside:
+        lists.extend([(" a", ((1, 0),)), (" ", ((0, 0), (1, 1))), (" a", ((0, 0), (1, 2), (2, 0)))])
+    return lists
+
+
+def texts_with_marks(dice, alphabet, pairs, names, many=8, longest=8):
+    """Texts of letters, pieces, blanks if these are letters, and marks, some of them with two marks side by side."""
+    pieces = literal_texts(alphabet, pairs)
+    texts = [""] + [f"<{name}>" for name in names]
+    for _ in range(many):
+        parts = []
+        for _ in range(dice.below(longest + 1)):
+            kind = dice.below(4)
+            if kind == 0 and names:
+                parts.append(f"<{names[dice.below(len(names))]}>")
+            elif kind == 1 and " " in alphabet:
+                parts.append(" ")
+            else:
+                parts.append(pieces[dice.below(len(pieces))])
+        texts.append("".join(parts))
+    return texts

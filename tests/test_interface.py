@@ -40,6 +40,8 @@ FUNCTIONS = {
     "models": {"model_of": ("joins", "corpus")},
     "covers": {"covers": ("model", "text"), "begins": ("model", "text"), "next_signs": ("model", "text")},
     "conditions": {"chance_of_machine": ("model", "machine"), "next_pieces": ("model", "machine", "row")},
+    "healing": {"healed": ("joins", "machine", "text")},
+    "searching": {"places_of": ("joins", "row", "text")},
 }
 
 CLASSES = {
@@ -80,9 +82,24 @@ CLASSES = {
             "table": (),
         },
     },
+    "tokenizers": {
+        "Tokenizer": {
+            "__init__": ("joins", "marks"), "numbers_of": ("text",), "spans": ("text",), "text_of": ("numbers",),
+            "is_encoding": ("numbers",),
+        },
+    },
+    "codestreams": {"CodeStream": {"__init__": ("tokenizer",), "feed": ("text",), "finish": ()}},
+    "learners": {
+        "Learner": {
+            "__init__": ("alphabet", "corpus"), "step": (), "list_so_far": (), "totals": (), "read": ("text", "count"),
+        },
+    },
 }
 
-PROPERTIES = {"joinlists": {"Joins": ("pieces",)}, "streams": {"Stream": ("told", "waiting")}}
+PROPERTIES = {
+    "joinlists": {"Joins": ("pieces",)}, "streams": {"Stream": ("told", "waiting")}, "tokenizers": {"Tokenizer": ("size",)},
+    "codestreams": {"CodeStream": ("told", "waiting")},
+}
 
 
 class Interface(unittest.TestCase):

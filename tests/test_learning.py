@@ -6,32 +6,7 @@ from rankedjoins.errors import InvalidAlphabet, UnknownSign
 from rankedjoins.joinlists import Joins
 from rankedjoins.learning import corpus_of, learn, neighbors, sizes
 from rankedjoins.plain import cut
-from support import ALPHABET_OF_31, EXAMPLE, Dice, literal_cut, literal_texts, many_lists
-
-
-def literal_neighbors(alphabet, pairs, corpus):
-    totals = {}
-    for text, count in corpus:
-        row = literal_cut(alphabet, pairs, text)
-        for at in range(len(row) - 1):
-            pair = (row[at], row[at + 1])
-            totals[pair] = totals.get(pair, 0) + count
-    ordered = sorted([(-total, pair) for pair, total in totals.items()])
-    return tuple([(pair, -negative) for negative, pair in ordered])
-
-
-def literal_learn(alphabet, corpus, many):
-    pairs = []
-    while len(pairs) < many:
-        totals = literal_neighbors(alphabet, pairs, corpus)
-        if not totals or totals[0][1] < 2:
-            break
-        pair = totals[0][0]
-        texts = literal_texts(alphabet, pairs)
-        if len(texts[pair[0]] + texts[pair[1]]) > 40:
-            break
-        pairs.append(pair)
-    return tuple(pairs)
+from support import ALPHABET_OF_31, EXAMPLE, Dice, literal_cut, literal_learn, literal_neighbors, literal_texts, many_lists
 
 
 def many_corpora():

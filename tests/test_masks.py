@@ -9,20 +9,10 @@ from rankedjoins.joinlists import Joins
 from rankedjoins.masks import lets, may_end, shortest_end
 from rankedjoins.patterns import machine_of
 from rankedjoins.plain import cut, text_of_row
-from support import (DOUBLING, EXAMPLE, HUGE, Dice, Quick, drawn_machine, large_lists, literal_takes, literal_texts,
-                     many_machines, small_lists, taken_up_to, texts_up_to)
+from support import (DOUBLING, EXAMPLE, HUGE, Dice, Quick, drawn_machine, finite_machine, large_lists, literal_takes,
+                     literal_texts, many_machines, small_lists, taken_up_to, texts_up_to)
 
 LONGEST = {1: 12, 2: 7, 3: 5}
-
-
-def finite_machine(alphabet, texts):
-    """(alphabet, start, ends, steps) of a machine that takes just these texts."""
-    beginnings = sorted(set([text[:many] for text in list(texts) + [""] for many in range(len(text) + 1)]))
-    steps = []
-    for beginning in beginnings:
-        longer = [beginning + letter for letter in alphabet]
-        steps.append([beginnings.index(text) if text in beginnings else None for text in longer])
-    return alphabet, 0, [beginnings.index(text) for text in texts], steps
 
 
 def first_shortest(joins, machine, row, most):

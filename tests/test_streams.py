@@ -6,32 +6,8 @@ from rankedjoins.errors import UnknownSign
 from rankedjoins.joinlists import Joins
 from rankedjoins.plain import cut
 from rankedjoins.streams import Stream
-from support import (CHAIN_RIGHT, DOUBLING, EXAMPLE, Dice, Quick, large_lists, literal_cut, literal_texts, many_lists,
-                     small_lists, texts_for, texts_up_to)
-
-
-def common_beginning(rows):
-    """The longest common beginning of the rows."""
-    rows = list(rows)
-    many = 0
-    while all([len(row) > many for row in rows]) and len(set([row[many] for row in rows])) == 1:
-        many += 1
-    return rows[0][:many]
-
-
-def endings_of(alphabet, pairs):
-    """The empty text and all endings of the texts of pieces."""
-    endings = {"": True}
-    for piece in literal_texts(alphabet, pairs):
-        for at in range(len(piece)):
-            endings[piece[at:]] = True
-    return list(endings)
-
-
-def sure_row(joins, endings, text):
-    """The longest common beginning of the cuts of the texts that go on from this one with one of the endings."""
-    # Where the text ends inside of the last piece of some cut, the rest of this piece is among the endings.
-    return common_beginning([cut(joins, text + ending) for ending in endings])
+from support import (CHAIN_RIGHT, DOUBLING, EXAMPLE, Dice, Quick, common_beginning, endings_of, large_lists, literal_cut,
+                     literal_texts, many_lists, small_lists, sure_row, texts_for, texts_up_to)
 
 
 class Feeding(unittest.TestCase):
